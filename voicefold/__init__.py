@@ -1,0 +1,1 @@
+"""Voicefold: many voices, one end, by many rules."""

@@ -1,0 +1,18 @@
+"""What a whole number is, and what a name is."""
+
+LONGEST_NAME = 8
+
+
+def is_whole(thing):
+    """Whether thing is a whole number: an int that is no truth."""
+    return isinstance(thing, int) and not isinstance(thing, bool)
+
+
+def is_name(thing):
+    """Whether thing is a name: a text of one to eight small letters, a to z."""
+    if not isinstance(thing, str):
+        return False
+    if not 1 <= len(thing) <= LONGEST_NAME:
+        return False
+    # Not islower(): it lets by figures, and letters beyond a to z.
+    return all(["a" <= sign <= "z" for sign in thing])
