@@ -1,4 +1,4 @@
-"""What a whole number is, and what a name is."""
+"""What a whole number is, what a name is, and what a tuple of so many parts is."""
 
 LONGEST_NAME = 8
 
@@ -16,3 +16,8 @@ def is_name(thing):
         return False
     # Not islower(): it lets by figures, and letters beyond a to z.
     return all(["a" <= sign <= "z" for sign in thing])
+
+
+def is_tuple_of(thing, many):
+    """Whether thing is a tuple of so many parts."""
+    return isinstance(thing, tuple) and len(thing) == many
