@@ -16,6 +16,19 @@ class EqualToAll:
         return True
 
 
+class EqualByHash:
+    """Tells that it is equal to anything, and takes the place of a thing among the keys of a dict."""
+
+    def __init__(self, thing):
+        self.thing = thing
+
+    def __hash__(self):
+        return hash(self.thing)
+
+    def __eq__(self, other):
+        return True
+
+
 # Each is no option, no options, no ballot, no part of a poll, no order and no paper, whatever is asked.
 THINGS = (None, True, False, 0, 1, -1, 7, 10 ** 40, 1.0, 0.5, float("nan"), "", "zz", "order", "in", b"a", b"",
           object(), EqualToAll(), Share, Share(1), len, {}, {"a": "b"}, {("a", "b"): 1}, set(), {"zz"}, frozenset(),

@@ -24,6 +24,11 @@ def order_of_ties(options, ties):
     return ties
 
 
+def full_ballot(order):
+    """The ballot that ranks by an order: each option a tier of its own."""
+    return "order", tuple([(name,) for name in order])
+
+
 def is_way(options, thing, one, other):
     """Whether thing is a tuple of unlike options from one to other."""
     if not isinstance(thing, tuple) or len(thing) == 0 or not are_unlike_options(options, thing):

@@ -66,3 +66,10 @@ def by_tiers(poll):
         told = tiers(poll.options, ballot)
         found[told] = found.get(told, 0) + many
     return found
+
+
+def fewer(voices, at, many):
+    """The rows of voices, so many of the row at a place taken away; without the row where none of it are left."""
+    ballot, had = voices[at]
+    left = ((ballot, had - many),) if had > many else ()
+    return voices[:at] + left + voices[at + 1:]

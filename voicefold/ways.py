@@ -10,16 +10,15 @@ def strength(poll, one, other):
     """How strong the strongest way from one to other is."""
     check_option(poll.options, one)
     check_option(poll.options, other)
-    found, _ = strongest_ways(poll, one)[other]
+    found, _ = strongest_ways(poll.options, margins(poll), one)[other]
     return found
 
 
-def strongest_ways(poll, start):
+def strongest_ways(options, held, start):
     """A dict from each other option to how strong the strongest way from start to it is, and such a way."""
-    held = margins(poll)
     found = {}
     ways = {start: (start,)}
-    left = [option for option in poll.options if option != start]
+    left = [option for option in options if option != start]
     while left:
         # Each way out of the options that are reached has a step out of them, and none of these is stronger than this.
         steps = [(one, other) for one in ways for other in left]
@@ -39,7 +38,7 @@ def strength_paper(poll, one, other):
     """A strongest way from one to other, and a lot that shows that no way is stronger."""
     check_option(poll.options, one)
     check_option(poll.options, other)
-    found = strongest_ways(poll, one)
+    found = strongest_ways(poll.options, margins(poll), one)
     most, way = found[other]
     return way, [option for option in poll.options if option == one or found[option][0] > most]
 
@@ -59,6 +58,18 @@ def shows_strength(poll, one, other, number, paper):
     if weakest(held, way) != number:
         return False
     return all([held[step] <= number for step in steps_out(poll.options, lot)])
+
+
+def ways_lot(poll):
+    """The list of the options that win by ways: from which no strongest way is weaker than the one back."""
+    held = margins(poll)
+    found = {one: strongest_ways(poll.options, held, one) for one in poll.options}
+    return [one for one in poll.options if is_no_weaker(found, one)]
+
+
+def is_no_weaker(found, one):
+    """Whether, to each other option, the strongest way found from one is no weaker than the strongest way back."""
+    return all([there >= found[other][one][0] for other, (there, _) in found[one].items()])
 
 
 def pairs_order(poll, *, ties=()):

@@ -1,4 +1,4 @@
-"""What a whole number is, what a name is, and what a tuple of so many parts is."""
+"""What a whole number is, a name, a tuple of so many parts, and a place among so many."""
 
 LONGEST_NAME = 8
 
@@ -21,3 +21,8 @@ def is_name(thing):
 def is_tuple_of(thing, many):
     """Whether thing is a tuple of so many parts."""
     return isinstance(thing, tuple) and len(thing) == many
+
+
+def is_place(thing, many):
+    """Whether thing is a place among so many: a whole number from 0, below many."""
+    return is_whole(thing) and 0 <= thing < many
