@@ -1,9 +1,10 @@
 """Rounds: in each, one with the fewest voices goes, until one is left."""
 
-from voicefold.ballots import check_option, is_name
+from voicefold.ballots import check_option
 from voicefold.counts import ranked
 from voicefold.errors import BadOrder
 from voicefold.orders import order_of_ties
+from voicefold.words import is_name
 
 
 def tally(poll, left):
